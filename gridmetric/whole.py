@@ -27,6 +27,11 @@ def lower(a, b):
     return a // b
 
 
+def rounded(a, b):
+    """Return a whole number that is nearest to a / b, for b above 0."""
+    return lower(2 * a + b, 2 * b)
+
+
 def cofactors(a, b):
     """Return (g, u, v) with the greatest common divisor g = u a + v b."""
     # b comes first, so that u is 1 or -1 and v is 0 where a divides b.

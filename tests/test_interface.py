@@ -15,6 +15,14 @@ INTERFACE = {
     "grid": {
         "Grid": ["rows", "width"], "unit": ["n"], "diagonal": ["numbers"], "blocks": ["a", "b"],
     },
+    "lattice": {"Lattice": ["gram"], "read_lattice": ["text"]},
+    "short": {
+        "tail_matrix": ["gram", "k"], "near_vectors": ["lattice", "a", "d", "most"],
+        "short_vectors": ["lattice", "most"], "least_norm": ["lattice"],
+        "least_vectors": ["lattice"], "counts": ["lattice", "most"],
+    },
+    "nearest": {"nearest": ["lattice", "a", "d"], "distance": ["lattice", "a", "d", "v"]},
+    "least": {"levels": ["lattice"], "least_bases": ["lattice"], "form": ["lattice"]},
 }
 
 METHODS = {
@@ -25,6 +33,12 @@ METHODS = {
         "is_square": [], "determinant": [], "adjugate": [], "is_unimodular": [], "inverse": [],
         "hermite": [], "rank": [], "smith": [], "factors": [], "is_primitive": [],
         "coefficients": ["row"],
+    },
+    ("lattice", "Lattice"): {
+        "__add__": ["other"], "__eq__": ["other"], "__contains__": ["x"], "__str__": [],
+        "rank": [], "determinant": [], "content": [], "is_even": [],
+        "product": ["v", "w"], "norm": ["v"], "changed": ["u"], "spanned": ["u"],
+        "scaled": ["k"], "box_vectors": ["size"],
     },
 }
 
@@ -70,6 +84,24 @@ class ArgumentsStayTest(unittest.TestCase):
         self.assertEqual(rows, [[2, 4], [3, 5]])
         self.assertEqual(row, [1, 2])
         self.assertEqual((made.rows, made.width), (((2, 4), (3, 5)), 2))
+
+    def test_a_lattice_does_not_change(self):
+        gram = [[5, 3], [3, 2]]
+        lattice = module("lattice").Lattice(gram)
+        short, nearest, least = module("short"), module("nearest"), module("least")
+        short.near_vectors(lattice, (1, 2), 3, 9), short.short_vectors(lattice, 5)
+        short.least_vectors(lattice), short.counts(lattice, 5)
+        nearest.nearest(lattice, (1, 2), 3), nearest.distance(lattice, (1, 2), 3, (0, 0))
+        least.levels(lattice), least.least_bases(lattice), least.form(lattice)
+        self.assertEqual(gram, [[5, 3], [3, 2]])
+        self.assertEqual(lattice.gram.rows, ((5, 3), (3, 2)))
+
+    def test_equal_arguments_give_equal_results(self):
+        short, least = module("short"), module("least")
+        one, two = [module("lattice").Lattice(((6, 2, -3), (2, 4, 1), (-3, 1, 5))) for _ in "ab"]
+        for act in (short.least_vectors, least.levels, least.least_bases, least.form):
+            self.assertEqual(act(one), act(two))
+            self.assertEqual(act(one), act(one))
 
 
 if __name__ == "__main__":

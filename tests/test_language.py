@@ -144,6 +144,13 @@ class LanguageTest(unittest.TestCase):
             names += [node.name for node in tree.body if hasattr(node, "name")]
             self.assertEqual(len(names), len(set(names)), path)
 
+    def test_what_is_imported_is_used(self):
+        for path, tree in trees():
+            read = {node.id for node in ast.walk(tree) if isinstance(node, ast.Name)}
+            for node in imports(tree):
+                for alias in node.names:
+                    self.assertIn(alias.name, read, path)
+
     def test_no_local_name_is_that_of_a_class_or_an_import(self):
         for path, tree in trees():
             taken = {alias.name for node in imports(tree) for alias in node.names}

@@ -4,7 +4,7 @@ from fractions import Fraction
 
 from gridmetric.errors import Refused
 from gridmetric.whole import (
-    cofactors, content, divisors, dot, is_integer, lower, root_floor, upper,
+    cofactors, content, divisors, dot, is_integer, lower, root_floor, rounded, upper,
 )
 
 LONG = 7 ** 500
@@ -56,6 +56,13 @@ class QuotientTest(unittest.TestCase):
         self.assertEqual((upper(-7, 2), lower(-7, 2)), (-3, -4))
         self.assertEqual((upper(6, 2), lower(6, 2)), (3, 3))
         self.assertEqual((upper(0, 5), lower(0, 5)), (0, 0))
+
+
+class RoundedTest(unittest.TestCase):
+    def test_it_is_at_most_one_half_away(self):
+        for a in NUMBERS:
+            for b in (1, 2, 3, 10, LONG):
+                self.assertLessEqual(abs(rounded(a, b) - Fraction(a, b)), Fraction(1, 2))
 
 
 class CofactorsTest(unittest.TestCase):

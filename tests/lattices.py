@@ -42,6 +42,9 @@ ORDINARY = (
     Lattice(((4, 1, 2, 0), (1, 3, 1, 1), (2, 1, 5, -1), (0, 1, -1, 2))),
 )
 
+# Those without a large group: what they are asked takes little time.
+SMALL = tuple(lattice for lattice in ORDINARY if lattice not in (UNIT_4, ROOTS_4))
+
 
 def random_lattice(source, rank, bound):
     """A lattice whose basis vectors are rows of whole numbers up to a bound."""

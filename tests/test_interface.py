@@ -23,6 +23,15 @@ INTERFACE = {
     },
     "nearest": {"nearest": ["lattice", "a", "d"], "distance": ["lattice", "a", "d", "v"]},
     "least": {"levels": ["lattice"], "least_bases": ["lattice"], "form": ["lattice"]},
+    "maps": {
+        "alike": ["a", "b"], "find_map": ["a", "b"], "all_maps": ["a", "b"], "self_maps": ["a"],
+        "order": ["a"], "generators": ["a"], "word_of": ["a", "maps", "m"],
+    },
+    "papers": {"levels_paper": ["lattice"], "pair_paper": ["a", "b"], "group_paper": ["a"]},
+    "checker": {
+        "box": ["lattice", "norm"], "takes_levels": ["lattice", "paper"],
+        "takes_pair": ["a", "b", "paper"], "takes_group": ["a", "paper"],
+    },
 }
 
 METHODS = {
@@ -96,10 +105,27 @@ class ArgumentsStayTest(unittest.TestCase):
         self.assertEqual(gram, [[5, 3], [3, 2]])
         self.assertEqual(lattice.gram.rows, ((5, 3), (3, 2)))
 
+    def test_maps_and_papers_do_not_change(self):
+        maps, papers, checker = module("maps"), module("papers"), module("checker")
+        a = module("lattice").Lattice(((5, 3), (3, 2)))
+        taken, words = maps.generators(a), [[0], [1]]
+        rows = [m.rows for m in taken]
+        maps.word_of(a, taken, maps.self_maps(a)[3])
+        paper = papers.group_paper(a)
+        self.assertTrue(checker.takes_group(a, paper))
+        self.assertFalse(checker.takes_group(a, ("group", 2, taken, words, paper[4])))
+        self.assertEqual([m.rows for m in taken], rows)
+        self.assertEqual(words, [[0], [1]])
+        self.assertEqual(paper, papers.group_paper(a))
+        self.assertEqual(a.gram.rows, ((5, 3), (3, 2)))
+
     def test_equal_arguments_give_equal_results(self):
-        short, least = module("short"), module("least")
+        short, least, maps, papers = [module(name) for name in ("short", "least", "maps", "papers")]
         one, two = [module("lattice").Lattice(((6, 2, -3), (2, 4, 1), (-3, 1, 5))) for _ in "ab"]
-        for act in (short.least_vectors, least.levels, least.least_bases, least.form):
+        for act in (
+            short.least_vectors, least.levels, least.least_bases, least.form, maps.self_maps,
+            maps.generators, papers.levels_paper, papers.group_paper,
+        ):
             self.assertEqual(act(one), act(two))
             self.assertEqual(act(one), act(one))
 

@@ -307,6 +307,11 @@ class OtherLatticesTest(unittest.TestCase):
                 one + two
             self.assertEqual(caught.exception.reason, "rank")
 
+    def test_other_values_than_lattices_are_not_added(self):
+        for value in (HEXAGON.gram, 1, None, "1"):
+            with self.assertRaises(TypeError):
+                HEXAGON + value
+
     def test_scaled(self):
         self.assertEqual(HEXAGON.scaled(3), Lattice(((6, 3), (3, 6))))
         self.assertEqual(HEXAGON.scaled(1), HEXAGON)

@@ -1,7 +1,7 @@
 import unittest
 
 from lattices import (
-    CUBE, HEXAGON, LONG_SQUARE, ORDINARY, ROOTS_4, SKEW_SQUARE, SQUARE, UNIT_4, levels_by_box,
+    CUBE, HEXAGON, LONG_SQUARE, ORDINARY, ROOTS_4, SKEW_SQUARE, SMALL, SQUARE, UNIT_4, levels_by_box,
     pairs_of_bases, plain_product,
 )
 
@@ -69,7 +69,7 @@ class LevelsTest(unittest.TestCase):
 
 class LeastBasesTest(unittest.TestCase):
     def test_they_are_the_tuples_of_the_last_level(self):
-        for lattice in ORDINARY:
+        for lattice in SMALL:
             found = least_bases(lattice)
             self.assertIs(type(found), tuple)
             self.assertEqual([basis.rows for basis in found], list(levels(lattice)[-1][1]))
@@ -78,7 +78,7 @@ class LeastBasesTest(unittest.TestCase):
                 self.assertTrue(basis.is_unimodular())
 
     def test_all_have_the_least_gram_matrix(self):
-        for lattice in ORDINARY:
+        for lattice in SMALL:
             least = form(lattice).gram.rows
             for basis in least_bases(lattice):
                 products = tuple(
@@ -87,7 +87,7 @@ class LeastBasesTest(unittest.TestCase):
                 self.assertEqual(products, least)
 
     def test_the_key_has_the_items_on_and_below_the_diagonal(self):
-        for lattice in ORDINARY:
+        for lattice in SMALL:
             least = form(lattice).gram.rows
             for k, (mark, _) in enumerate(levels(lattice)):
                 self.assertEqual(mark, (least[k][k],) + least[k][:k])
@@ -95,7 +95,7 @@ class LeastBasesTest(unittest.TestCase):
 
 class FormTest(unittest.TestCase):
     def test_it_is_a_lattice_and_the_form_of_a_form_is_itself(self):
-        for lattice in ORDINARY:
+        for lattice in SMALL:
             found = form(lattice)
             self.assertIsInstance(found, Lattice)
             self.assertEqual(form(found), found)

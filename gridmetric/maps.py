@@ -73,17 +73,22 @@ def words_by(n, maps):
     words = {start: ()}
     columns = [m.transposed() for m in maps]
     images = [{} for _ in maps]
-    layer = [start]
+    layer = (start,)
     while len(layer) > 0:
-        met = []
-        for rows in layer:
-            for k in range(len(images)):
-                longer = product_rows(rows, columns[k], images[k])
-                if longer not in words:
-                    words[longer] = words[rows] + (k,)
-                    met.append(longer)
-        layer = met
+        layer = next_layer(layer, columns, images, words)
     return words
+
+
+def next_layer(layer, columns, images, words):
+    """Return the products of a layer and one more map that have no word; give them theirs."""
+    met = []
+    for rows in layer:
+        for k in range(len(images)):
+            longer = product_rows(rows, columns[k], images[k])
+            if longer not in words:
+                words[longer] = words[rows] + (k,)
+                met.append(longer)
+    return tuple(met)
 
 
 def product_rows(rows, columns, known):

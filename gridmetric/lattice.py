@@ -5,11 +5,11 @@ from gridmetric.errors import Malformed, NoText, Refused
 from gridmetric.grid import Grid, blocks
 from gridmetric.minors import determinant_of
 from gridmetric.whole import content, dot, is_integer
+from gridmetric.words import is_number
 
 MOST_ROWS = 4
 MOST = 10000
 MOST_DIGITS = 5
-DIGITS = "0123456789"
 
 
 class Lattice:
@@ -123,20 +123,10 @@ def read_lattice(text):
     if not isinstance(text, str):
         raise NoText(0)
     rows = [row.split(" ") for row in text.split("; ")]
-    if not all([is_number(word) for row in rows for word in row]):
+    if not all([is_number(word, MOST_DIGITS) for row in rows for word in row]):
         raise NoText(0)
     numbers = [[int(word) for word in row] for row in rows]
     try:
         return Lattice(numbers)
     except (Malformed, Refused):
         raise NoText(0) from None
-
-
-def is_number(word):
-    """Return True if this is how a number of a Gram matrix is written."""
-    digits = word[1:] if word.startswith("-") else word
-    if len(digits) == 0 or len(digits) > MOST_DIGITS:
-        return False
-    if not all([sign in DIGITS for sign in digits]):
-        return False
-    return digits[0] != "0" or word == "0"

@@ -1,11 +1,9 @@
 """The vectors that are nearest to a rational point (point 3.5)."""
 
-from math import gcd
-
 from gridmetric.errors import Malformed
 from gridmetric.reduction import short_basis
 from gridmetric.short import check_point, near_pairs
-from gridmetric.whole import rounded
+from gridmetric.whole import lowest, rounded
 
 
 def nearest(lattice, a, d):
@@ -34,9 +32,3 @@ def distance(lattice, a, d, v):
 def norm_between(lattice, a, d, v):
     """Return the norm of d v - a."""
     return lattice.norm(tuple([d * y - x for x, y in zip(a, v)]))
-
-
-def lowest(p, q):
-    """Return the fraction p / q in lowest terms, for q above 0."""
-    common = gcd(p, q)
-    return p // common, q // common

@@ -53,6 +53,12 @@ def content(numbers):
     return common
 
 
+def lowest(p, q):
+    """Return the fraction p / q in lowest terms, for q above 0."""
+    common = gcd(p, q)
+    return p // common, q // common
+
+
 def dot(a, b):
     """Return the product of two rows of one length."""
     return sum([x * y for x, y in zip(a, b)])

@@ -32,6 +32,23 @@ INTERFACE = {
         "box": ["lattice", "norm"], "takes_levels": ["lattice", "paper"],
         "takes_pair": ["a", "b", "paper"], "takes_group": ["a", "paper"],
     },
+    "parts": {
+        "decomposition": ["lattice", "v"], "is_indecomposable": ["lattice", "v"],
+        "indecomposables": ["lattice", "most"], "summands": ["lattice", "v"],
+        "finest_parts": ["lattice"], "is_whole": ["lattice"], "part_lattices": ["lattice"],
+        "is_parting": ["lattice", "grids"],
+    },
+    "dual": {
+        "dual_basis": ["lattice"], "scaled_dual": ["lattice"], "rational": ["row", "e"],
+        "is_in_dual": ["lattice", "vector"], "rational_product": ["lattice", "x", "y"],
+        "quotient_group": ["lattice"], "quotient_vectors": ["lattice"],
+    },
+    "nested": {
+        "sublattices": ["n", "index"], "above": ["lattice"], "raised": ["lattice", "grid"],
+    },
+    "packing": {
+        "plain": ["value"], "restored": ["value"], "write_data": ["value"], "read_data": ["text"],
+    },
 }
 
 METHODS = {
@@ -119,12 +136,28 @@ class ArgumentsStayTest(unittest.TestCase):
         self.assertEqual(paper, papers.group_paper(a))
         self.assertEqual(a.gram.rows, ((5, 3), (3, 2)))
 
+    def test_what_lies_around_a_lattice_does_not_change_it(self):
+        parts, dual, nested = module("parts"), module("dual"), module("nested")
+        gram, row = [[4, 2], [2, 9]], [2, 4]
+        a = module("lattice").Lattice(gram)
+        grids = parts.finest_parts(a)
+        parts.decomposition(a, (3, 4)), parts.summands(a, (3, 4)), parts.indecomposables(a, 20)
+        parts.is_parting(a, grids), parts.part_lattices(a)
+        dual.scaled_dual(a), dual.quotient_vectors(a), dual.quotient_group(a)
+        nested.raised(a, nested.above(a)[0][1])
+        self.assertEqual(dual.rational(row, 6), ((1, 2), 3))
+        self.assertEqual((gram, row), ([[4, 2], [2, 9]], [2, 4]))
+        self.assertEqual((a.gram.rows, grids), (((4, 2), (2, 9)), parts.finest_parts(a)))
+
     def test_equal_arguments_give_equal_results(self):
+        parts, dual, nested = module("parts"), module("dual"), module("nested")
         short, least, maps, papers = [module(name) for name in ("short", "least", "maps", "papers")]
         one, two = [module("lattice").Lattice(((6, 2, -3), (2, 4, 1), (-3, 1, 5))) for _ in "ab"]
         for act in (
             short.least_vectors, least.levels, least.least_bases, least.form, maps.self_maps,
-            maps.generators, papers.levels_paper, papers.group_paper,
+            maps.generators, papers.levels_paper, papers.group_paper, parts.finest_parts,
+            parts.part_lattices, dual.dual_basis, dual.scaled_dual, dual.quotient_group,
+            dual.quotient_vectors, nested.above,
         ):
             self.assertEqual(act(one), act(two))
             self.assertEqual(act(one), act(one))

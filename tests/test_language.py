@@ -23,11 +23,14 @@ BUILTIN_METHODS = set(
     "append clear copy count endswith extend find get index insert isalnum isalpha isdigit "
     "islower isspace isupper items join keys ljust lower lstrip partition pop remove replace "
     "reverse rfind rjust rpartition rsplit rstrip setdefault split splitlines startswith strip "
-    "update upper values zfill bit_length add discard".split()
+    "update upper values zfill bit_length add discard isascii removeprefix removesuffix".split()
 )
 DUNDERS = set(
     "__init__ __eq__ __repr__ __str__ __len__ __iter__ __add__ __sub__ __mul__ __neg__ "
     "__contains__".split()
+)
+CHANGING_METHODS = set(
+    "append clear extend insert pop remove reverse setdefault update add discard".split()
 )
 MODULE_LEVEL = (ast.ImportFrom, ast.FunctionDef, ast.ClassDef, ast.Assign, ast.Expr)
 NOT_USED = (
@@ -53,6 +56,59 @@ def defined(tree):
 
 def imports(tree):
     return [node for node in tree.body if isinstance(node, ast.ImportFrom)]
+
+
+def walked_names(node):
+    """The names that a loop or comprehension goes over, also within calls such as enumerate."""
+    if isinstance(node, ast.Name):
+        return {node.id}
+    if isinstance(node, ast.Attribute):
+        return walked_names(node.value)
+    if isinstance(node, ast.IfExp):
+        return walked_names(node.body) | walked_names(node.orelse)
+    if isinstance(node, ast.BoolOp):
+        return set().union(*[walked_names(part) for part in node.values])
+    if isinstance(node, ast.Call):
+        parts = list(node.args)
+        if isinstance(node.func, ast.Attribute):
+            parts.append(node.func.value)
+        elif getattr(node.func, "id", None) in ("list", "tuple", "sorted", "range", "len"):
+            return set()
+        return set().union(*[walked_names(part) for part in parts])
+    return set()
+
+
+def changed_names(node):
+    """The names of what the rows of a node change: by a method, an item or `+=`."""
+    found = set()
+    for part in ast.walk(node):
+        if isinstance(part, ast.Call) and isinstance(part.func, ast.Attribute):
+            if part.func.attr in CHANGING_METHODS:
+                found |= walked_names(part.func.value)
+        if isinstance(part, ast.Subscript) and not isinstance(part.ctx, ast.Load):
+            found |= walked_names(part.value)
+        if isinstance(part, ast.AugAssign):
+            found |= walked_names(part.target)
+    return found
+
+
+def same_things(function):
+    """A dict from each name to all names that are assigned from it, or it from them."""
+    pairs = []
+    for node in ast.walk(function):
+        if isinstance(node, ast.Assign):
+            for target in node.targets:
+                if isinstance(target, ast.Name):
+                    value = node.value
+                    if not isinstance(value, ast.Call):
+                        pairs += [(target.id, name) for name in walked_names(value)]
+    names = {name for pair in pairs for name in pair}
+    found = {name: {name} for name in names}
+    for _ in names:
+        for one, two in pairs:
+            found[one] |= found[two]
+            found[two] |= found[one]
+    return found
 
 
 class LanguageTest(unittest.TestCase):
@@ -131,6 +187,17 @@ class LanguageTest(unittest.TestCase):
                 if isinstance(node, ast.Call) and getattr(node.func, "id", None) in takers:
                     kinds = {part.__class__ for part in node.args}
                     self.assertNotIn(ast.GeneratorExp, kinds, (path, node.lineno))
+
+    def test_what_a_loop_walks_is_not_changed_in_it(self):
+        for path, tree in trees():
+            for function in functions(tree):
+                same = same_things(function)
+                for node in ast.walk(function):
+                    if isinstance(node, ast.For):
+                        walked = walked_names(node.iter)
+                        walked |= {two for one in walked for two in same.get(one, ())}
+                        changed = set().union(*[changed_names(part) for part in node.body])
+                        self.assertFalse(walked & changed, (path, function.name, node.lineno))
 
     def test_python_gives_no_warning(self):
         with warnings.catch_warnings():

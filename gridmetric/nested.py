@@ -21,6 +21,8 @@ def sublattices(n, index):
 
 def sublattice_count(n, index):
     """Return the number of these matrices, without making them."""
+    check_number(n, MOST_SIZE)
+    check_number(index, MOST_INDEX)
     total = 0
     for pivots in pivot_tuples(n, index):
         many = 1

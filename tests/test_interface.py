@@ -49,6 +49,10 @@ INTERFACE = {
     "packing": {
         "plain": ["value"], "restored": ["value"], "write_data": ["value"], "read_data": ["text"],
     },
+    "sheet": {"read_line": ["line"], "is_name": ["value"]},
+    "replies": {"reply_to": ["names", "line"], "is_right": ["names", "entry"]},
+    "log": {"write_log": ["entries"], "read_log": ["text"], "first_wrong": ["entries"]},
+    "console": {"Console": []},
 }
 
 METHODS = {
@@ -65,6 +69,9 @@ METHODS = {
         "rank": [], "determinant": [], "content": [], "is_even": [],
         "product": ["v", "w"], "norm": ["v"], "changed": ["u"], "spanned": ["u"],
         "scaled": ["k"], "box_vectors": ["size"],
+    },
+    ("console", "Console"): {
+        "__init__": [], "__len__": [], "enter": ["line"], "entries": [], "names": [],
     },
 }
 

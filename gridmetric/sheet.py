@@ -6,7 +6,7 @@ from gridmetric.words import is_number, is_word
 
 MOST_SIGNS = 2000
 MOST_DIGITS = 4
-LEAST_NUMBER = -9999
+MOST_NUMBER = 9999
 PERCENT = 37
 COMMANDS = ("form", "alike", "group", "short", "nearest", "parts", "dual", "below", "above")
 NAME_ALONE = ("form", "group", "parts", "dual", "above")
@@ -38,9 +38,10 @@ def is_line(value):
 
 def read_let(line):
     """Return the command of a line whose first word is `let`."""
-    head, equals, text = line.partition("=")
+    # Where there is no sign, the text is empty, which is that of no lattice.
+    head, _, text = line.partition("=")
     words = head.split()
-    if equals == "" or len(words) != 2:
+    if len(words) != 2:
         raise NoText(0)
     return ("let", checked_name(words[1]), read_lattice(text.strip()))
 
@@ -56,7 +57,7 @@ def read_words(word, rest):
     if word == "below" and len(rest) == 2:
         return (word, checked_name(rest[0]), read_number(rest[1], 1))
     if word == "nearest" and len(rest) > 3 and rest[-2] == "/":
-        a = tuple([read_number(item, LEAST_NUMBER) for item in rest[1:-2]])
+        a = tuple([read_number(item, -MOST_NUMBER) for item in rest[1:-2]])
         return (word, checked_name(rest[0]), a, read_number(rest[-1], 1))
     raise NoText(0)
 

@@ -47,6 +47,7 @@ BAD = (
     "nearest a 10000 / 1", "nearest a -10000 / 1", "nearest a -0 / 1", "nearest a 01 / 1",
     "nearest a +1 / 1", "nearest a 1 / 01", "nearest a b / 1", "nearest 1 / 2", "nearest a --1 / 2",
     "nearest a - / 2", "nearest A 1 / 2", "nearest a 1 2 - 3", "nearest / 1 / 2",
+    "short a 1 / 2", "form a 1 / 2", "below a 1 2 / 3", "x a 1 / 2", "alike a 1 / 2",
     " #", "  # form a", "form a # b", "form a #", "let", "let a", "let a 1", "let = 1", "let a b = 1",
     "let a =", "let a = ", "let a", "let 1 = 1", "let A = 1", "let form = 1", "let let = 1", "let=a 1",
     "leta = 1", "leta=1", "lets a = 1", "Let a = 1", "let abcdefghi = 1", "let a = = 1", "let a == 1",

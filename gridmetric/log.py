@@ -40,7 +40,11 @@ def read_log(text):
     told = [read_part(line, k) for k, line in enumerate(lines)]
     if rest != "" or len(told) % 3 != 0:
         raise NoText(len(told))
-    return [(told[k], (*told[k + 1], told[k + 2])) for k in range(0, len(told), 3)]
+    entries = []
+    for k in range(0, len(told), 3):
+        kind, body = told[k + 1]
+        entries.append((told[k], (kind, body, told[k + 2])))
+    return entries
 
 
 def read_part(line, k):

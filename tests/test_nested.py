@@ -2,7 +2,7 @@ import unittest
 from itertools import product
 
 from lattices import (
-    CUBE, HEXAGON, LINE, LONG_SQUARE, ORDINARY, ROOTS_4, SQUARE, UNIT_4, pairs_of_bases,
+    CUBE, HEXAGON, LONG_SQUARE, ORDINARY, ROOTS_4, SQUARE, UNIT_4, pairs_of_bases,
     plain_norm,
 )
 
